@@ -1,0 +1,1 @@
+"""Likespans: timetables that come round, and what is alike in them."""
