@@ -1,6 +1,7 @@
 """The errors of the package: one class for each kind of failure.
 
-Each keeps what it is made with, as passed, under the name of its parameter.
+Each keeps what it is made with, as passed, under the name of its parameter. Those that keep
+nothing take nothing: their empty beginnings bar what ValueError would take.
 """
 
 
@@ -40,7 +41,7 @@ class BadWay(SpansError):
     """A thing is no way, or not such a way as is asked for."""
 
     def __init__(self):
-        super().__init__()
+        pass
 
 
 class BadEvent(SpansError):
@@ -54,14 +55,14 @@ class BadRing(SpansError):
     """A thing is no ring."""
 
     def __init__(self):
-        super().__init__()
+        pass
 
 
 class BadTimetable(SpansError):
     """A thing is no timetable of the net, or not such a one as is asked for."""
 
     def __init__(self):
-        super().__init__()
+        pass
 
 
 class BadLengths(SpansError):
@@ -89,7 +90,7 @@ class BadMove(SpansError):
     """A thing is no move."""
 
     def __init__(self):
-        super().__init__()
+        pass
 
 
 class Broken(SpansError):
@@ -110,7 +111,7 @@ class BadLikeness(SpansError):
     """A thing is no likeness of the net, or not such a one as is asked for."""
 
     def __init__(self):
-        super().__init__()
+        pass
 
 
 class BadLot(SpansError):
@@ -124,7 +125,7 @@ class NotEven(SpansError):
     """A timetable is not even."""
 
     def __init__(self):
-        super().__init__()
+        pass
 
 
 class BadMost(SpansError):
@@ -138,7 +139,7 @@ class OtherPiece(SpansError):
     """An event is led to another piece, or two events are of unlike pieces."""
 
     def __init__(self):
-        super().__init__()
+        pass
 
 
 class BadPrices(SpansError):
@@ -152,28 +153,28 @@ class NoTimetable(SpansError):
     """A net has no timetable."""
 
     def __init__(self):
-        super().__init__()
+        pass
 
 
 class UnlikePrices(SpansError):
     """Prices are not alike for like spans."""
 
     def __init__(self):
-        super().__init__()
+        pass
 
 
 class NoFold(SpansError):
     """A likeness folds no net."""
 
     def __init__(self):
-        super().__init__()
+        pass
 
 
 class Clash(SpansError):
     """Both ends of a span fall into one event, or two spans into one."""
 
     def __init__(self):
-        super().__init__()
+        pass
 
 
 class BadTimes(SpansError):
@@ -194,7 +195,7 @@ class NoEvent(SpansError):
     """There is no such event in a plan."""
 
     def __init__(self):
-        super().__init__()
+        pass
 
 
 class NoLine(SpansError):
@@ -222,21 +223,21 @@ class NothingDone(SpansError):
     """There is no deed that could be undone."""
 
     def __init__(self):
-        super().__init__()
+        pass
 
 
 class OtherEvents(SpansError):
     """The number of events is another one now."""
 
     def __init__(self):
-        super().__init__()
+        pass
 
 
 class NoSpans(SpansError):
     """A net has no spans."""
 
     def __init__(self):
-        super().__init__()
+        pass
 
 
 class BadMinutes(SpansError):

@@ -65,8 +65,6 @@ class Ratio:
         return Ratio(top, self.bottom * bottom_of(other))
 
     def __radd__(self, other):
-        if not is_number(other):
-            return NotImplemented
         return self + other
 
     def __sub__(self, other):
@@ -76,8 +74,6 @@ class Ratio:
         return Ratio(top, self.bottom * bottom_of(other))
 
     def __rsub__(self, other):
-        if not is_number(other):
-            return NotImplemented
         return -self + other
 
     def __mul__(self, other):
@@ -86,8 +82,6 @@ class Ratio:
         return Ratio(self.top * top_of(other), self.bottom * bottom_of(other))
 
     def __rmul__(self, other):
-        if not is_number(other):
-            return NotImplemented
         return self * other
 
     def __neg__(self):

@@ -108,7 +108,7 @@ class LanguageTest(unittest.TestCase):
             if bound and not isinstance(node, ast.Attribute):
                 self.assertNotIn(word, known, (name, node.lineno))
             if isinstance(node, ast.Name) and not bound and word in known:
-                self.assertIn(word, BUILTINS | {"super"}, (name, node.lineno))
+                self.assertIn(word, BUILTINS, (name, node.lineno))
             if word.startswith("__"):
                 self.assertIn(word, DOUBLE, (name, node.lineno))
 

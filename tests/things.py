@@ -54,3 +54,17 @@ def is_plain(number):
     if isinstance(number, Ratio):
         return number.bottom > 1
     return isinstance(number, int) and not isinstance(number, bool)
+
+
+def knot():
+    """A net of three pieces: three events with two rings, two with one, and one alone."""
+    return Net(10, 6, ((0, 1, 2, 4), (2, 1, 1, 3), (0, 2, 0, 3), (4, 3, 1, 1), (3, 4, 2, 9), (1, 0, 3, 5)))
+
+
+def error_of(call, *passed):
+    """The class of the error that a call raises and what it keeps, None where it raises none."""
+    try:
+        call(*passed)
+    except errors.SpansError as error:
+        return (type(error).__name__,) + tuple(vars(error).values())
+    return None
