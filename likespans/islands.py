@@ -102,10 +102,15 @@ def is_barring(net, row, thing):
     return not least <= net.beat * rounds_by(net, row, thing) <= greatest
 
 
+def check_island(net, thing):
+    """Raises an error if a thing is no island."""
+    if barring(net, thing) is not None:
+        raise BadIsland(-2)
+
+
 def island_limits(net, island):
     """The arcs between the places of the events in an island."""
-    if barring(net, island) is not None:
-        raise BadIsland(-2)
+    check_island(net, island)
     return limits(net, chords(net), island)
 
 

@@ -3,8 +3,8 @@
 from likespans.errors import BadMove, BadMoves, BadTimetable, Broken
 from likespans.islands import island_of, places, rounds
 from likespans.nets import pieces
-from likespans.ratios import is_integer, plain, rest_of
-from likespans.timetables import first_broken, is_timetable, is_whole
+from likespans.ratios import is_integer, plain, rest_of, whole_below
+from likespans.timetables import first_broken, is_timetable, is_whole, reached
 from likespans.ways import base, is_event, is_ring
 
 
@@ -51,17 +51,29 @@ def moved(net, timetable, move):
     return moments
 
 
-def led_so_far(net, timetable, moves):
-    """The moments to which the first moves lead, and the index of the first one that fails, or None."""
-    moments = as_plain(timetable)
+def rooms(net, timetable):
+    """For each span its ends, and the least and the most whole minutes by which its length may change."""
+    found = []
+    for (i, j, low, high), number in zip(net.spans, reached(net, timetable)):
+        found.append((i, j, -whole_below(number - low), whole_below(high - number)))
+    return found
+
+
+def led_all(net, timetable, moves):
+    """The moments behind moves, and None; or None, and the index of the first one that fails.
+
+    Moves may be many: so only whole minutes are counted on the way.
+    """
+    spare = rooms(net, timetable)
+    changes = [0] * net.events
     for index, move in enumerate(moves):
         if not is_move(net, move):
-            return moments, index
-        following = stepped(net, moments, move)
-        if first_broken(net, following) is not None:
-            return moments, index
-        moments = following
-    return moments, None
+            return None, index
+        for event in move[0]:
+            changes[event] = changes[event] + move[1]
+        if not all([least <= changes[j] - changes[i] <= most for i, j, least, most in spare]):
+            return None, index
+    return tuple([rest_of(moment + more, net.beat) for moment, more in zip(as_plain(timetable), changes)]), None
 
 
 def led(net, timetable, moves):
@@ -70,7 +82,7 @@ def led(net, timetable, moves):
         raise BadTimetable()
     if not isinstance(moves, (list, tuple)):
         raise BadMoves(-1)
-    moments, fault = led_so_far(net, timetable, moves)
+    moments, fault = led_all(net, timetable, moves)
     if fault is not None:
         raise BadMoves(fault)
     return moments
@@ -151,8 +163,7 @@ def is_led(net, one, other, thing):
     """Whether a thing is a list of moves that lead from one timetable to another one."""
     if not isinstance(thing, list):
         return False
-    moments, fault = led_so_far(net, one, thing)
-    return fault is None and moments == as_plain(other)
+    return led_all(net, one, thing)[0] == as_plain(other)
 
 
 def unlike_rounds(net, one, other, ring, first, second):

@@ -35,6 +35,11 @@ def below(one, other):
     return top_of(one) * bottom_of(other) < top_of(other) * bottom_of(one)
 
 
+def whole_below(number):
+    """The greatest integer that is not above a number."""
+    return top_of(number) // bottom_of(number)
+
+
 def plain(number):
     """The same number: an integer where it is whole, else a Ratio."""
     return top_of(number) if bottom_of(number) == 1 else number

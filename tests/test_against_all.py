@@ -8,45 +8,10 @@ from likespans.islands import (
     all_whole, held, is_barring, island_of, islands, last, leader, places, rounds, rounds_by, timetables,
 )
 from likespans.moving import is_way_to, led, way_to
-from likespans.nets import Net, pieces
+from likespans.nets import pieces
 from likespans.timetables import from_lengths, is_timetable, lengths, shift_between, shifted
 from likespans.ways import backward, base, by_base, tree, tree_way, way_ends
-
-
-def some_net(chance):
-    """A net of few events and spans, and a short beat."""
-    beat = chance.randint(3, 6)
-    events = chance.randint(1, 4)
-    spans = []
-    for _ in range(chance.randint(0, 6) if events > 1 else 0):
-        i, j = chance.sample(range(events), 2)
-        low = chance.randint(0, 2 * beat)
-        span = (i, j, low, low + chance.randint(0, beat - 2))
-        if span not in spans:
-            spans.append(span)
-    return Net(beat, events, spans)
-
-
-def slow_lengths(net, moments):
-    """The lengths by trying each number within the bounds, None where some span has none."""
-    row = []
-    for i, j, low, high in net.spans:
-        fit = [number for number in range(low, high + 1) if (moments[i] + number - moments[j]) % net.beat == 0]
-        if not fit:
-            return None
-        row.append(fit[0])
-    return tuple(row)
-
-
-def slow_timetables(net):
-    """All whole timetables."""
-    found = itertools.product(range(net.beat), repeat=net.events)
-    return [moments for moments in found if slow_lengths(net, moments) is not None]
-
-
-def slow_sum(row, ring):
-    """The sum of the lengths on a ring, with signs."""
-    return sum([row[index] if forth else -row[index] for index, forth in ring])
+from tests.slow import slow_lengths, slow_sum, slow_timetables, some_net
 
 
 def slow_moves(net, found, start):

@@ -104,6 +104,13 @@ class LedTest(unittest.TestCase):
         self.assertEqual(error_of(led, line(), RIGHT, [up, up]), ("BadMoves", 1))
         self.assertEqual(error_of(led, line(), (0, 4, 5, 8), [up, None]), ("BadMoves", 0))
         self.assertEqual(error_of(led, line(), RIGHT, [up, None, up]), ("BadMoves", 1))
+        down = ((1,), -1)
+        self.assertEqual(error_of(led, line(), RIGHT, [down, down]), ("BadMoves", 1))
+        self.assertEqual(led(line(), RIGHT, [down]), (0, 2, 5, 8))
+        half = (0, Ratio(5, 2), 5, 8)
+        self.assertEqual(error_of(led, line(), half, [down]), ("BadMoves", 0))
+        self.assertEqual(error_of(led, line(), half, [up, up]), ("BadMoves", 1))
+        self.assertEqual(led(line(), half, [up, down]), half)
         # It would be a timetable again behind both, but is none between.
         self.assertEqual(error_of(led, line(), (0, 4, 7, 9), [((3,), 1), ((3,), -1)]), ("BadMoves", 0))
 
