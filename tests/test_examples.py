@@ -1,4 +1,4 @@
-"""The examples at the end of the document, as far as they have landed."""
+"""The examples at the end of the document, all of them."""
 
 import unittest
 
@@ -7,8 +7,10 @@ from likespans.evening import evened
 from likespans.islands import held, islands, leader
 from likespans.likes import likenesses
 from likespans.nets import Net, pieces
+from likespans.plans import Plan
 from likespans.ratios import Ratio
 from likespans.spacing import mirror_moments, spacing
+from likespans.texts import net_text
 from likespans.timetables import lengths, moments_fault
 from likespans.ways import base, tree
 
@@ -46,6 +48,14 @@ class ExamplesTest(unittest.TestCase):
 
     def test_e08(self):
         self.assertEqual(best(NET, ((0, 1, 2), (4, 2, 1), (0, 1, 2), (4, 2, 1)), (1,))[0], 2)
+
+    def test_e09(self):
+        plan = Plan("beat 10\nline a p 2 4 q\nturn a p 1 3\nturn a q 1 3")
+        told = (plan.net == NET, plan.mirror(), plan.trains("a", (0, 3, 5, 8)))
+        self.assertEqual(told, (True, ((3, 2, 1, 0), False), 1))
+
+    def test_e10(self):
+        self.assertEqual(net_text(Net(5, 2, ((0, 1, 1, 3),))), "beat 5\nevents 2\nspan 0 1 1 3")
 
 
 if __name__ == "__main__":
