@@ -4,6 +4,7 @@ from likespans.balances import balance
 from likespans.errors import BadTimetable, NoTimetable, UnlikePrices
 from likespans.evening import are_integers, even_islands, evened
 from likespans.islands import island_of, islands, leader
+from likespans.leasts import least_row
 from likespans.prices import are_alike, check_prices, cost_of
 from likespans.ratios import is_number
 from likespans.timetables import from_lengths, is_whole, lengths
@@ -126,23 +127,14 @@ def floors_by(net, island, told, rows):
 
 
 def least_of(net, prices, rows):
-    """The least cost of a timetable of these islands, and the least island that has one.
+    """The least cost of a timetable of these islands, and the least island that has one."""
 
-    The best of each island gives floors to all others: only islands that their floors do not bar are
-    tried, those with the least floors first.
-    """
-    told = best_there(net, prices, rows[0])
-    least = (told[0], rows[0])
-    floors = floors_by(net, rows[0], told, rows[1:])
-    while True:
-        left = sorted([(floors[row], row) for row in floors if (floors[row], row) < least])
-        if not left:
-            return least
-        island = left[0][1]
+    def judged(island, others):
+        """The least cost of an island, and floors for others."""
         told = best_there(net, prices, island)
-        least = min(least, (told[0], island))
-        further = floors_by(net, island, told, [row for floor, row in left[1:]])
-        floors = {row: max(floors[row], further[row]) for row in further}
+        return told[0], floors_by(net, island, told, others)
+
+    return least_row(rows, judged)
 
 
 def best_of_all(net, prices):

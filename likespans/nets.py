@@ -16,7 +16,7 @@ class Net:
     def __init__(self, beat, events, spans):
         if not is_integer(beat) or not LEAST_BEAT <= beat <= MOST_BEAT:
             raise BadBeat(beat)
-        if not is_integer(events) or not 1 <= events <= MOST_EVENTS:
+        if not are_events(events):
             raise BadEvents(events)
         fault = spans_fault(beat, events, spans)
         if fault is not None:
@@ -29,6 +29,11 @@ class Net:
         if not isinstance(other, Net):
             return False
         return self.beat == other.beat and self.events == other.events and self.spans == other.spans
+
+
+def are_events(thing):
+    """Whether a thing is a number of events that a net may have."""
+    return is_integer(thing) and 1 <= thing <= MOST_EVENTS
 
 
 def is_span(beat, events, thing):

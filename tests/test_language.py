@@ -26,7 +26,7 @@ NO_NAMES = set(
     "type typing enum Enum Flag Generic Protocol ABC namedtuple".split()
 )
 NO_NODES = (
-    ast.Global, ast.AsyncFunctionDef, ast.Try, ast.With, ast.Lambda, ast.GeneratorExp, ast.Yield, ast.YieldFrom,
+    ast.Global, ast.AsyncFunctionDef, ast.ExceptHandler, ast.With, ast.Lambda, ast.GeneratorExp, ast.Yield, ast.YieldFrom,
     ast.Div, ast.NamedExpr, ast.Starred, ast.AnnAssign, ast.Nonlocal, ast.Match, ast.Import, ast.Delete,
 )
 DOUBLE = {
@@ -82,6 +82,13 @@ class LanguageTest(unittest.TestCase):
             for sign, side in zip(node.ops, node.comparators):
                 if isinstance(sign, (ast.Is, ast.IsNot)):
                     self.assertIsInstance(side, ast.Constant, (name, node.lineno))
+
+    def test_what_stands_in_a_finally(self):
+        for name, node in nodes(ast.Try):
+            self.assertTrue(node.finalbody and not node.orelse, (name, node.lineno))
+            for row in node.finalbody:
+                self.assertIsInstance(row, ast.Assign, (name, row.lineno))
+                self.assertIsInstance(row.value, (ast.Name, ast.Attribute), (name, row.lineno))
 
     def test_imports(self):
         own = {}
