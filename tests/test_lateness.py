@@ -102,6 +102,11 @@ class LateTest(unittest.TestCase):
             told = late(TIGHT, RIGHT, event, 1)
             self.assertEqual(told[0], "endless")
             self.assertIs(is_late(TIGHT, RIGHT, event, 1, told), True)
+        # Spans of one minute, the least that takes time.
+        net = Net(3, 3, ((0, 1, 1, 2), (1, 2, 1, 2), (2, 0, 1, 2)))
+        self.assertEqual(late(net, (0, 1, 2), 1, 1)[0], "endless")
+        net = Net(3, 3, ((0, 1, 0, 1), (1, 2, 1, 2), (2, 0, 2, 2)))
+        self.assertEqual(late(net, (0, 0, 1), 1, 1)[0], "endless")
         # A ring that is come to while late, and one that is not.
         net = Net(10, 6, TIGHT.spans + ((4, 0, 1, 5), (5, 4, 1, 5)))
         timetable = RIGHT + (7, 4)
@@ -228,7 +233,8 @@ class IsLateTest(unittest.TestCase):
             self.assertIs(is_late(line(), RIGHT, 0, 4, ("ends", row)), right, row)
         self.assertIs(is_late(line(), RIGHT, 0, 1, ("ends", (1, False, 0, 0))), False)
         self.assertIs(is_late(line(), RIGHT, 0, 1, ("ends", (True, 0, 0, 0))), False)
-        self.assertIs(is_late(TIGHT, RIGHT, 0, 1, ("ends", (1, 1, 1, 1))), False)
+        for row in [(1, 1, 1, 1), (1, 0, 0, 0), (), None]:
+            self.assertIs(is_late(TIGHT, RIGHT, 0, 1, ("ends", row)), False)
 
     def test_things(self):
         for net, minutes in [(line(), 4), (TIGHT, 1)]:
