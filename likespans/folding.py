@@ -4,8 +4,8 @@ from likespans.errors import BadTimes, BadTimetable, Clash, NoFold, NotEven
 from likespans.evening import is_even
 from likespans.likes import check_likeness, indexes_led, times_round
 from likespans.nets import LEAST_BEAT, Net
-from likespans.ratios import is_below, plain, rest_of
-from likespans.timetables import is_timetable, lengths, shift_between, tree_places, way_sum
+from likespans.ratios import is_below, rest_of
+from likespans.timetables import beats_over, is_timetable, shift_between, tree_places, way_sum
 from likespans.ways import base
 
 
@@ -70,13 +70,6 @@ def turns_of(net, likeness, steps):
     return [steps[j] - steps[i] for i, j, low, high in first_spans(net, likeness)]
 
 
-def beats_along(net, timetable):
-    """By how many beats each length is above the moment of j less that of i."""
-    row = lengths(net, timetable)
-    over = [number - timetable[span[1]] + timetable[span[0]] for span, number in zip(net.spans, row)]
-    return [plain(number) // net.beat for number in over]
-
-
 def laid_out(net, likeness, timetable, times):
     """What unfolded tells, for right arguments.
 
@@ -85,7 +78,7 @@ def laid_out(net, likeness, timetable, times):
     """
     other, events, steps = folded(net, likeness)
     turns = turns_of(net, likeness, steps)
-    more = [beats - times * turn for beats, turn in zip(beats_along(other, timetable), turns)]
+    more = [beats - times * turn for beats, turn in zip(beats_over(other, timetable), turns)]
     for ring in base(other):
         if way_sum(more, ring) % (net.beat // other.beat) != 0:
             return ("ring", ring)

@@ -5,7 +5,7 @@ from likespans.islands import rounds
 from likespans.journeys import in_parts, is_journey, quickest_from
 from likespans.moving import is_told
 from likespans.ratios import Ratio, below, is_below, is_number, plain
-from likespans.timetables import is_timetable, lengths, way_sum
+from likespans.timetables import beats_over, is_timetable, lengths, way_sum
 from likespans.ways import is_event, is_ring, way_ends
 
 MOST_BEATS = 40
@@ -90,15 +90,11 @@ def is_late(net, timetable, event, minutes, thing):
     return told[0] == "ends" and are_numbers_like(told[1], thing[1])
 
 
-def beats_later(net, timetable):
-    """For each span by how many beats it arrives later than it goes."""
-    row = lengths(net, timetable)
-    over = [timetable[span[0]] + number - timetable[span[1]] for span, number in zip(net.spans, row)]
-    return [plain(number) // net.beat for number in over]
-
-
 def pass_on(net, spare, later, table, beat):
-    """Lets lateness go along the spans from a beat; whether more came to an event on this very beat."""
+    """Lets lateness go along the spans from a beat; whether more came to an event on this very beat.
+
+    A span arrives as many beats later as its length is above the moment of j less that of i.
+    """
     again = False
     for index, span in enumerate(net.spans):
         there = beat + later[index]
@@ -116,7 +112,7 @@ def late_until(net, timetable, event, minutes, beats):
     if not is_below(MOST_BEATS + 1, beats):
         raise BadBeats(beats)
     parts, spare, most = reserves_in_parts(net, timetable, minutes)
-    later = beats_later(net, timetable)
+    later = beats_over(net, timetable)
     table = [[0] * net.events for _ in range(beats + 1)]
     table[0][event] = most
     for beat in range(beats + 1):

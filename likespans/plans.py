@@ -7,7 +7,7 @@ from likespans.islands import rounds
 from likespans.journeys import in_parts
 from likespans.likes import is_likeness
 from likespans.nets import Net
-from likespans.plan_rows import DEPARTURE, OUT, all_spans, all_stops, read_plan
+from likespans.plan_rows import all_spans, all_stops, read_plan
 from likespans.ratios import Ratio, plain
 from likespans.timetables import is_timetable, lengths
 from likespans.ways import is_event

@@ -54,6 +54,13 @@ def lengths(net, timetable):
     return tuple(reached(net, timetable))
 
 
+def beats_over(net, timetable):
+    """For each span by how many beats its length is above the moment of j less that of i."""
+    row = lengths(net, timetable)
+    over = [number - timetable[j] + timetable[i] for (i, j, low, high), number in zip(net.spans, row)]
+    return [plain(number) // net.beat for number in over]
+
+
 def shifted(net, timetable, number):
     """The timetable with each moment later by a number."""
     if not is_timetable(net, timetable):

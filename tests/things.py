@@ -3,7 +3,9 @@
 from fractions import Fraction
 
 from likespans import errors
+from likespans.desks import Desk
 from likespans.nets import Net
+from likespans.plans import Plan
 from likespans.ratios import Ratio
 
 
@@ -25,7 +27,7 @@ def things():
         object(), int, type, len, some_function, zip(), enumerate([]), property(), ValueError("x"),
         errors.BadWay(), errors.BadNumber(1), Ratio(1, 2), Ratio(3, 1), line(), -1, 10 ** 40, -10 ** 40,
         (Ratio(1, 2),) * 4, (10 ** 40,) * 4, ("0", "3", "5", "8"), (None,) * 4, (True, False, True, False),
-        nested(20),
+        nested(20), [nested(19)], {"a": [nested(18)]}, Desk(line()), Plan("beat 10\nline a p 2 4 q"), errors.Refused(errors.BadSpan(-1)),
     ]
 
 
